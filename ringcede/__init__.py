@@ -1,0 +1,1 @@
+"""Losses handed on from house to house, in rings too, till each crown rests at one."""
