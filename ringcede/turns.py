@@ -34,12 +34,15 @@ def next_place(lines, borne):
     return best
 
 
-def count_out(lines, crowns):
-    """What each pair bears of so many crowns."""
+def bearers(lines, crowns):
+    """The houses to which the crowns of a bill fall, from the first crown on."""
     borne = [0 for pair in lines]
+    told = []
     for crown in range(crowns):
-        borne[next_place(lines, borne)] += 1
-    return borne
+        place = next_place(lines, borne)
+        borne[place] += 1
+        told.append(lines[place][0])
+    return told
 
 
 def parts(lines, crowns):
@@ -47,7 +50,8 @@ def parts(lines, crowns):
     require_lines(lines)
     if not 0 <= crowns <= MOST_BILL:
         raise BadCrowns(f"a bill has 0 to {MOST_BILL} crowns")
-    return count_out(lines, crowns)
+    told = bearers(lines, crowns)
+    return [told.count(house) for house, line in lines]
 
 
 def bearer(lines, crown):
@@ -55,5 +59,4 @@ def bearer(lines, crown):
     require_lines(lines)
     if not 1 <= crown <= MOST_BILL:
         raise BadCrowns(f"the crowns of a bill are numbered from 1 to {MOST_BILL}")
-    place = next_place(lines, count_out(lines, crown - 1))
-    return lines[place][0]
+    return bearers(lines, crown)[-1]

@@ -61,6 +61,26 @@ class PackageTest(unittest.TestCase):
                 self.assertNotIsInstance(node, ast.Div)
                 self.assertNotIsInstance(node.value, (float, complex))
 
+    def test_no_name_is_a_method_and_a_value(self):
+        methods = {
+            part.name for file, node in nodes(ast.ClassDef) for part in node.body if isinstance(part, ast.FunctionDef)
+        }
+        values = {node.attr for file, node in nodes(ast.Attribute) if isinstance(node.ctx, ast.Store)}
+        self.assertEqual(methods & values, set())
+
+    def test_no_parameter_or_local_hides_another_name(self):
+        for path in files():
+            tree = ast.parse(path.read_text())
+            drawn = {alias.name for node in ast.walk(tree) if isinstance(node, ast.ImportFrom) for alias in node.names}
+            drawn |= {node.name for node in ast.walk(tree) if isinstance(node, ast.ClassDef)}
+            given = {node.arg for node in ast.walk(tree) if isinstance(node, ast.arg)}
+            given |= {
+                node.id for node in ast.walk(tree) if isinstance(node, ast.Name) and isinstance(node.ctx, ast.Store)
+            }
+            with self.subTest(file=path.name):
+                self.assertEqual({name for name in given if name in drawn or hasattr(builtins, name)}, set())
+                self.assertEqual({name for name in given if name.startswith("_")}, set())
+
     def test_functions_are_small(self):
         for file, node in nodes(ast.FunctionDef):
             with self.subTest(file=file, line=node.lineno):

@@ -2,8 +2,8 @@
 
 import itertools
 import unittest
-from fractions import Fraction
 
+from helper import told_parts
 from ringcede.errors import BadCrowns, BadLines
 from ringcede.turns import bearer, parts
 
@@ -38,15 +38,6 @@ BAD_LINES = (
     ("a line above 20", ((0, 21),)),
     ("a later line above 20", ((0, 1), (1, 20), (2, 21))),
 )
-
-
-def told_parts(lines, crowns):
-    """The parts by the very words of [2], with true fractions."""
-    borne = [0] * len(lines)
-    for crown in range(crowns):
-        fractions = [Fraction(have + 1, line) for have, (house, line) in zip(borne, lines)]
-        borne[fractions.index(min(fractions))] += 1
-    return borne
 
 
 class PartsTest(unittest.TestCase):
@@ -85,13 +76,13 @@ class PartsTest(unittest.TestCase):
         for lines in GOOD_LINES:
             for crowns in range(25):
                 with self.subTest(lines=lines, crowns=crowns):
-                    self.assertEqual(parts(lines, crowns), told_parts(lines, crowns))
+                    self.assertEqual(parts(lines, crowns), list(told_parts(lines, crowns)))
 
     def test_like_the_words_for_all_pairs_of_lines(self):
         for one, other in itertools.product(range(1, 21), repeat=2):
             lines = ((1, one), (0, other))
             for crowns in (1, 2, 5, 11, 24):
-                self.assertEqual(parts(lines, crowns), told_parts(lines, crowns))
+                self.assertEqual(parts(lines, crowns), list(told_parts(lines, crowns)))
 
     def test_the_parts_sum_to_the_bill(self):
         for lines in GOOD_LINES:

@@ -1,0 +1,136 @@
+"""What the document's words tell of tables, reckoned apart from the program, and tables to try."""
+
+import itertools
+import random
+from fractions import Fraction
+from functools import lru_cache
+
+from ringcede.tables import Table
+
+# Losses handed on from house 0 to 1 to 2, with no way back.
+CHAIN = (
+    3,
+    [(0, "share", 50, 10, ((1, 1),)), (1, "layer", 1, 3, ((2, 1),))],
+    [9, 0, 0],
+)
+# House 0 has two covers, one behind the other; house 1 hands back to it.
+LOOP = (
+    3,
+    [
+        (0, "share", 50, 10, ((1, 1), (2, 2))),
+        (0, "layer", 3, 6, ((2, 1),)),
+        (1, "share", 100, 4, ((0, 1),)),
+    ],
+    [10, 0, 2],
+)
+# A ring of whole shares where nobody lost anything.
+IDLE = (
+    3,
+    [(0, "share", 100, 5, ((1, 1),)), (1, "share", 100, 3, ((2, 1),)), (2, "share", 100, 4, ((0, 1),))],
+    [0, 0, 0],
+)
+# One crown goes round six houses and back again, each time one more, till all bills are full; the
+# covers are numbered against their way, so that it takes as long as can be.
+LONG_RING = (
+    6,
+    [(house, "share", 100, 24, (((house + 1) % 6, 1),)) for house in (5, 4, 3, 2, 1, 0)],
+    [1, 0, 0, 0, 0, 0],
+)
+TEN_COVERS = (
+    6,
+    [(house % 6, "share", 10 * house + 10, 2 * house, (((house + 1) % 6, house + 1),)) for house in range(10)],
+    [0, 9999, 17, 0, 250, 1],
+)
+NO_COVER = (1, [], [7])
+NAMED = (CHAIN, LOOP, IDLE, LONG_RING, TEN_COVERS, NO_COVER)
+
+
+def made_table(chance, most_houses, most_covers, most_bill):
+    """A table by chance: whole shares and houses without a loss stand often in it, so that rings spin."""
+    houses = chance.randint(2, most_houses)
+    covers = []
+    for cover in range(chance.randint(2, most_covers)):
+        house = chance.choice((cover % houses, chance.randrange(houses)))
+        kind = chance.choice(("share", "layer"))
+        by = chance.choice((1, 33, 75, 100, 100, 100, 100, 100)) if kind == "share" else chance.choice((0, 0, 1, 1, 2, 8))
+        signers = chance.sample([other for other in range(houses) if other != house], chance.randint(1, houses - 1))
+        lines = tuple((signer, chance.choice((1, 2, 3, 20))) for signer in signers[:4])
+        covers.append((house, kind, by, chance.randint(0, most_bill), lines))
+    return houses, covers, [chance.choice((0, 0, 0, 0, 1, 1, 1, 2, 9, 30)) for house in range(houses)]
+
+
+def made_tables(many, most_houses, most_covers, most_bill):
+    chance = random.Random(most_houses)
+    return [made_table(chance, most_houses, most_covers, most_bill) for number in range(many)]
+
+
+def small_tables():
+    """Tables with so few accounts that all of them can be tried."""
+    return [CHAIN, IDLE, NO_COVER] + made_tables(80, 5, 4, 3) + made_tables(200, 2, 4, 3) + made_tables(100, 3, 5, 2)
+
+
+def great_tables():
+    return list(NAMED) + made_tables(40, 6, 10, 24)
+
+
+@lru_cache(maxsize=None)
+def told_parts(lines, crowns):
+    """The parts of a bill by the very words of [2], with true fractions."""
+    borne = [0] * len(lines)
+    for crown in range(crowns):
+        fractions = [Fraction(have + 1, line) for have, (house, line) in zip(borne, lines)]
+        borne[fractions.index(min(fractions))] += 1
+    return tuple(borne)
+
+
+def told_burdens(plain, account):
+    """[5]: what befell each house, and what falls to it of the account's bills."""
+    houses, covers, losses = plain
+    told = list(losses)
+    for cover, bill in zip(covers, account):
+        for (house, line), crowns in zip(cover[4], told_parts(cover[4], bill)):
+            told[house] += crowns
+    return told
+
+
+def told_asked(plain, account):
+    """[5]: what each cover asks, of each house's covers one behind another."""
+    houses, covers, losses = plain
+    told = [None] * len(covers)
+    for house, burden in enumerate(told_burdens(plain, account)):
+        reach = burden
+        for number, (covered, kind, by, most, lines) in enumerate(covers):
+            if covered == house:
+                wish = int(Fraction(reach * by, 100)) if kind == "share" else max(0, reach - by)
+                told[number] = min(wish, most)
+                reach -= told[number]
+    return told
+
+
+def all_accounts(plain):
+    return [list(bills) for bills in itertools.product(*[range(cover[3] + 1) for cover in plain[1]])]
+
+
+def agreeing(plain):
+    """All accounts that agree, by trying every one."""
+    return [account for account in all_accounts(plain) if told_asked(plain, account) == account]
+
+
+def lies_below(one, other):
+    return all(low <= high for low, high in zip(one, other, strict=True))
+
+
+def bad_accounts(plain):
+    """Lists that are no accounts of the table, each of them wrong in one thing."""
+    mosts = [cover[3] for cover in plain[1]]
+    told = [mosts + [0], [0] * len(mosts) + [0]]
+    for place, most in enumerate(mosts):
+        told.append(mosts[:place] + mosts[place + 1:])
+        for bill in (-1, -30, most + 1, most + 30):
+            told.append(mosts[:place] + [bill] + mosts[place + 1:])
+            told.append([0] * place + [bill] + [0] * (len(mosts) - place - 1))
+    return told
+
+
+def table(plain):
+    return Table(*plain)
