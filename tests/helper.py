@@ -120,6 +120,30 @@ def lies_below(one, other):
     return all(low <= high for low, high in zip(one, other, strict=True))
 
 
+def told_least(plain):
+    """[7]: the bills as they go round by the words, from nought till no cover asks for more."""
+    bills = [0] * len(plain[1])
+    while told_asked(plain, bills) != bills:
+        bills = told_asked(plain, bills)
+    return bills
+
+
+def told_kept(plain, account):
+    """[11]: the burden of each house less the bills of its covers."""
+    burdens = told_burdens(plain, account)
+    return [
+        burden - sum(bill for cover, bill in zip(plain[1], account) if cover[0] == house)
+        for house, burden in enumerate(burdens)
+    ]
+
+
+def with_loss(plain, house, crowns):
+    """The table where so much befell the house."""
+    losses = list(plain[2])
+    losses[house] = crowns
+    return plain[0], plain[1], losses
+
+
 def bad_accounts(plain):
     """Lists that are no accounts of the table, each of them wrong in one thing."""
     mosts = [cover[3] for cover in plain[1]]
