@@ -1,5 +1,6 @@
 """What the document's words tell of tables, reckoned apart from the program, and tables to try."""
 
+import copy
 import itertools
 import random
 from fractions import Fraction
@@ -158,3 +159,119 @@ def bad_accounts(plain):
 
 def table(plain):
     return Table(*plain)
+
+
+def told_cover(terms, most):
+    """The row of a table for a cover by these terms."""
+    return terms[1], "layer" if terms[0] == "stop" else terms[0], terms[2], most, terms[-1]
+
+
+class PlainRing:
+    """[15] to [18]: all that comes of a ring, reckoned anew by the words from what the ring lists."""
+
+    def __init__(self, houses, covers, happenings, losses):
+        self.houses, self.covers, self.losses = houses, covers, losses
+        self.plains, self.numbers, self.bills, self.kept = {}, {}, {}, {}
+        self.used = [0] * len(covers)
+        for day, happening in sorted((day, happening) for happening, day in happenings):
+            self.reckon(happening, day)
+        self.reckon_end()
+
+    def reckon(self, happening, day):
+        numbers = [
+            number for number, (terms, ended) in enumerate(self.covers)
+            if terms[0] != "stop" and terms[5] <= day <= terms[6] and not (ended is not None and day >= ended)
+        ]
+        terms = [self.covers[number][0] for number in numbers]
+        covers = [told_cover(row, min(row[3], row[4] - self.used[number])) for number, row in zip(numbers, terms)]
+        befell = [
+            sum(crowns for loss, place, house, crowns in self.losses if (place, house) == (happening, each))
+            for each in range(self.houses)
+        ]
+        self.plains[happening] = (self.houses, covers, befell)
+        self.numbers[happening] = numbers
+        account = told_least(self.plains[happening])
+        self.kept[happening] = told_kept(self.plains[happening], account)
+        self.bills[happening] = [0] * len(self.covers)
+        for number, bill in zip(numbers, account):
+            self.bills[happening][number] = bill
+            self.used[number] += bill
+
+    def reckon_end(self):
+        stops = [number for number, (terms, ended) in enumerate(self.covers) if terms[0] == "stop"]
+        covers = [told_cover(self.covers[number][0], self.covers[number][0][3]) for number in stops]
+        befell = [sum(kept[house] for kept in self.kept.values()) for house in range(self.houses)]
+        self.end = (self.houses, covers, befell)
+        account = told_least(self.end)
+        self.borne = told_kept(self.end, account)
+        self.stop_bills = dict(zip(stops, account))
+
+    def left(self, number):
+        terms = self.covers[number][0]
+        return terms[3] - self.stop_bills[number] if terms[0] == "stop" else terms[4] - self.used[number]
+
+    def due(self, number):
+        bills = [bills[number] for bills in self.bills.values()] + [self.stop_bills.get(number, 0)]
+        lines = self.covers[number][0][-1]
+        return [sum(told_parts(lines, bill)[place] for bill in bills) for place in range(len(lines))]
+
+
+def plain_ring(ring):
+    return PlainRing(ring.houses(), ring.covers(), ring.happenings(), ring.losses())
+
+
+def plain_table(told):
+    return told.houses(), told.covers(), told.losses()
+
+
+def snapshot(ring):
+    """All that a ring tells, costs aside, apart from the lists that it told."""
+    covers = range(len(ring.covers()))
+    happenings = [happening for happening, day in ring.happenings()]
+    return copy.deepcopy({
+        "houses": ring.houses(), "covers": ring.covers(), "happenings": ring.happenings(), "losses": ring.losses(),
+        "numbers": {happening: ring.numbers(happening) for happening in happenings},
+        "tables": {happening: plain_table(ring.table(happening)) for happening in happenings},
+        "bills": {happening: ring.bills(happening) for happening in happenings},
+        "kept": {happening: ring.kept(happening) for happening in happenings},
+        "end_table": plain_table(ring.end_table()), "borne": ring.borne(),
+        "left": [ring.left(cover) for cover in covers], "due": [ring.due(cover) for cover in covers],
+        "paid": [ring.paid(cover) for cover in covers], "owed": [ring.owed(cover) for cover in covers],
+        "closings": ring.closings(),
+    })
+
+
+def made_terms(chance, houses):
+    """Terms by chance: they often hand on much, over many days, so that rings go round and wholes are used up."""
+    house = chance.randrange(houses)
+    signers = chance.sample([other for other in range(houses) if other != house], chance.randint(1, min(4, houses - 1)))
+    lines = tuple((signer, chance.choice((1, 2, 3, 20))) for signer in signers)
+    kind = chance.choice(("share", "share", "layer", "layer", "stop"))
+    by = chance.choice((20, 50, 100, 100)) if kind == "share" else chance.choice((0, 0, 5, 20, 60))
+    if kind == "stop":
+        return kind, house, by, chance.randint(1, 24), lines
+    first = chance.choice((0, 0, 0, 5))
+    return kind, house, by, chance.randint(1, 24), chance.randint(1, 60), first, chance.randint(first, 20), lines
+
+
+def made_deed(chance, ring):
+    """A deed by chance that the ring mostly does, and now and then refuses."""
+    houses, covers = ring.houses(), len(ring.covers())
+    happening = chance.choice([happening for happening, day in ring.happenings()] or [0])
+    other = chance.choice([happening for happening, day in ring.happenings()] or [1])
+    loss = chance.choice([row[0] for row in ring.losses()] or [0])
+    day, crowns = chance.randint(0, 20), chance.choice((1, 3, 10, 30, 100))
+    if covers == 0 or chance.random() < 0.15:
+        return "sign", made_terms(chance, houses)
+    return chance.choice((
+        ("end", chance.randrange(covers), chance.choice((day, 20, 99))), ("happen", day), ("happen", day),
+        ("shift", happening, day),
+        ("lose", happening, chance.randrange(houses), crowns), ("lose", happening, chance.randrange(houses), crowns),
+        ("lose", happening, chance.randrange(houses), crowns), ("lose", happening, chance.randrange(houses), crowns),
+        ("amend", loss, crowns), ("strike", loss), ("move", loss, happening), ("merge", happening, other), ("close",),
+    ))
+
+
+def do_deed(ring, deed):
+    """Does the deed straight to a ring: its name is the method's."""
+    return getattr(ring, deed[0])(*deed[1:])
